@@ -11,7 +11,8 @@ import (
 // leansOn is which of the language's ways each layer that is built leans on.
 func leansOn() map[string][]string {
 	return map[string][]string{
-		"mem": {"clear", "copy", "range over an integer"},
+		"mem":  {"clear", "copy", "range over an integer"},
+		"code": {"range over an array", "iota", "variadic", "closure"},
 	}
 }
 
@@ -56,14 +57,34 @@ func (y typer) ways(n ast.Node) map[string]int {
 			if b, ok := y.info.Uses[x].(*types.Builtin); ok {
 				got[b.Name()]++
 			}
-		case *ast.RangeStmt:
-			if b, ok := y.info.Types[x.X].Type.Underlying().(*types.Basic); ok && b.Info()&types.IsInteger != 0 {
-				got["range over an integer"]++
+			if o := y.info.Uses[x]; o != nil && o.Pkg() == nil && o.Name() == "iota" {
+				got["iota"]++
 			}
+		case *ast.RangeStmt:
+			got["range over "+y.ranged(x.X)]++
+		case *ast.Ellipsis:
+			if x.Elt != nil { // not that of an array
+				got["variadic"]++
+			}
+		case *ast.FuncLit:
+			got["closure"]++
 		}
 		return true
 	})
 	return got
+}
+
+// ranged tells what something that is ranged over is.
+func (y typer) ranged(x ast.Expr) string {
+	switch t := y.info.Types[x].Type.Underlying().(type) {
+	case *types.Array:
+		return "an array"
+	case *types.Basic:
+		if t.Info()&types.IsInteger != 0 {
+			return "an integer"
+		}
+	}
+	return "another thing"
 }
 
 // TestWays: each layer that is built has the ways that the document names for it.
