@@ -11,8 +11,9 @@ import (
 // leansOn is which of the language's ways each layer that is built leans on.
 func leansOn() map[string][]string {
 	return map[string][]string{
-		"mem":  {"clear", "copy", "range over an integer"},
-		"code": {"range over an array", "iota", "variadic", "closure"},
+		"mem":     {"clear", "copy", "range over an integer"},
+		"code":    {"range over an array", "iota", "variadic", "closure"},
+		"machine": {"iota", "array", "variadic", "map"},
 	}
 }
 
@@ -68,6 +69,12 @@ func (y typer) ways(n ast.Node) map[string]int {
 			}
 		case *ast.FuncLit:
 			got["closure"]++
+		case *ast.MapType:
+			got["map"]++
+		case *ast.ArrayType:
+			if x.Len != nil { // it is no slice
+				got["array"]++
+			}
 		}
 		return true
 	})
