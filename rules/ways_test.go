@@ -14,6 +14,7 @@ func leansOn() map[string][]string {
 		"mem":     {"clear", "copy", "range over an integer"},
 		"code":    {"range over an array", "iota", "variadic", "closure"},
 		"machine": {"iota", "array", "variadic", "map"},
+		"lexis":   {"closure", "array", "range over an array"},
 	}
 }
 
