@@ -15,6 +15,7 @@ func leansOn() map[string][]string {
 		"code":    {"range over an array", "iota", "variadic", "closure"},
 		"machine": {"iota", "array", "variadic", "map"},
 		"lexis":   {"closure", "array", "range over an array"},
+		"tree":    {"embedding", "promoted method", "generic function", "defer"},
 	}
 }
 
@@ -27,7 +28,11 @@ type typer struct {
 }
 
 func typesOf(r reader) typer {
-	info := &types.Info{Types: map[ast.Expr]types.TypeAndValue{}, Uses: map[*ast.Ident]types.Object{}}
+	info := &types.Info{
+		Types:      map[ast.Expr]types.TypeAndValue{},
+		Uses:       map[*ast.Ident]types.Object{},
+		Selections: map[*ast.SelectorExpr]*types.Selection{},
+	}
 	return typer{r, info, importer.ForCompiler(r.set, "source", nil), map[string]*types.Package{}}
 }
 
@@ -70,6 +75,22 @@ func (y typer) ways(n ast.Node) map[string]int {
 			}
 		case *ast.FuncLit:
 			got["closure"]++
+		case *ast.FuncDecl:
+			if x.Type.TypeParams != nil {
+				got["generic function"]++
+			}
+		case *ast.DeferStmt:
+			got["defer"]++
+		case *ast.StructType:
+			for _, f := range x.Fields.List {
+				if len(f.Names) == 0 {
+					got["embedding"]++
+				}
+			}
+		case *ast.SelectorExpr:
+			if s := y.info.Selections[x]; s != nil && s.Kind() == types.MethodVal && len(s.Index()) > 1 {
+				got["promoted method"]++
+			}
 		case *ast.MapType:
 			got["map"]++
 		case *ast.ArrayType:
