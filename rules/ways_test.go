@@ -16,6 +16,7 @@ func leansOn() map[string][]string {
 		"machine": {"iota", "array", "variadic", "map"},
 		"lexis":   {"closure", "array", "range over an array"},
 		"tree":    {"embedding", "promoted method", "generic function", "defer"},
+		"parse":   {"panic", "recover", "defer", "generic function", "method value"},
 	}
 }
 
@@ -58,8 +59,11 @@ func (y typer) Import(path string) (*types.Package, error) {
 // ways are those that a piece of code has.
 func (y typer) ways(n ast.Node) map[string]int {
 	got := map[string]int{}
+	called := map[ast.Expr]bool{}
 	ast.Inspect(n, func(n ast.Node) bool {
 		switch x := n.(type) {
+		case *ast.CallExpr:
+			called[ast.Unparen(x.Fun)] = true
 		case *ast.Ident:
 			if b, ok := y.info.Uses[x].(*types.Builtin); ok {
 				got[b.Name()]++
@@ -88,8 +92,13 @@ func (y typer) ways(n ast.Node) map[string]int {
 				}
 			}
 		case *ast.SelectorExpr:
-			if s := y.info.Selections[x]; s != nil && s.Kind() == types.MethodVal && len(s.Index()) > 1 {
-				got["promoted method"]++
+			if s := y.info.Selections[x]; s != nil && s.Kind() == types.MethodVal {
+				if len(s.Index()) > 1 {
+					got["promoted method"]++
+				}
+				if !called[x] {
+					got["method value"]++
+				}
 			}
 		case *ast.MapType:
 			got["map"]++
