@@ -3,6 +3,7 @@ package rules
 import (
 	"go/ast"
 	"go/importer"
+	"go/token"
 	"go/types"
 	"strings"
 	"testing"
@@ -17,6 +18,7 @@ func leansOn() map[string][]string {
 		"lexis":   {"closure", "array", "range over an array"},
 		"tree":    {"embedding", "promoted method", "generic function", "defer"},
 		"parse":   {"panic", "recover", "defer", "generic function", "method value"},
+		"kinds":   {"range over a function", "map", "compared structs", "array", "closure"},
 	}
 }
 
@@ -71,6 +73,10 @@ func (y typer) ways(n ast.Node) map[string]int {
 			if o := y.info.Uses[x]; o != nil && o.Pkg() == nil && o.Name() == "iota" {
 				got["iota"]++
 			}
+		case *ast.BinaryExpr:
+			if x.Op == token.EQL || x.Op == token.NEQ {
+				got["compared "+y.compared(x.X)]++
+			}
 		case *ast.RangeStmt:
 			got["range over "+y.ranged(x.X)]++
 		case *ast.Ellipsis:
@@ -121,8 +127,18 @@ func (y typer) ranged(x ast.Expr) string {
 		if t.Info()&types.IsInteger != 0 {
 			return "an integer"
 		}
+	case *types.Signature:
+		return "a function"
 	}
 	return "another thing"
+}
+
+// compared tells what two things are that are held against each other.
+func (y typer) compared(x ast.Expr) string {
+	if _, ok := y.info.Types[x].Type.Underlying().(*types.Struct); ok {
+		return "structs"
+	}
+	return "other things"
 }
 
 // TestWays: each layer that is built has the ways that the document names for it.
