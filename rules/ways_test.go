@@ -19,6 +19,7 @@ func leansOn() map[string][]string {
 		"tree":    {"embedding", "promoted method", "generic function", "defer"},
 		"parse":   {"panic", "recover", "defer", "generic function", "method value"},
 		"kinds":   {"range over a function", "map", "compared structs", "array", "closure"},
+		"check":   {"defer", "panic", "recover", "variadic"},
 	}
 }
 
