@@ -5,6 +5,7 @@ import (
 
 	"cocoon/api"
 	"cocoon/kinds"
+	"cocoon/types"
 )
 
 // scope is from where a source is looked at.
@@ -39,7 +40,7 @@ func (c *scope) place(p api.Place) (api.Ty, bool) {
 func (c *scope) named(name string) api.Ty {
 	for _, x := range slices.Backward(c.known) {
 		if x.Name == name {
-			return copied(x.Ty)
+			return types.Copied(x.Ty)
 		}
 	}
 	c.need(false, api.ErrUnknown)
@@ -76,18 +77,4 @@ func number() api.Ty { return api.Ty{K: api.TyInt} }
 
 func isAddress(t api.Ty) bool {
 	return t.K == api.TyBox || t.K == api.TyRef || t.K == api.TyMut
-}
-
-// same tells whether two types, that are resolved, are one.
-func same(a, b api.Ty) bool {
-	return a.K == b.K && a.Name == b.Name && slices.EqualFunc(a.L, b.L, same)
-}
-
-// copied is a type in lists of its own.
-func copied(t api.Ty) api.Ty {
-	t.L = slices.Clone(t.L)
-	for i := range t.L {
-		t.L[i] = copied(t.L[i])
-	}
-	return t
 }

@@ -5,6 +5,7 @@ import (
 
 	"cocoon/api"
 	"cocoon/kinds"
+	"cocoon/types"
 )
 
 // set is the type of what is set.
@@ -81,7 +82,7 @@ func (c *scope) made(v api.Rv) api.Ty {
 	case api.RvMake:
 		i := kinds.StructOf(*s, v.Name)
 		c.need(i >= 0, api.ErrUnknown)
-		c.handed(v.Ops, types(s.Structs[i].Fields)...)
+		c.handed(v.Ops, fieldTypes(s.Structs[i].Fields)...)
 		return api.Ty{K: api.TyStruct, Name: v.Name}
 	case api.RvVariant:
 		i := kinds.EnumOf(*s, v.Name)
@@ -94,7 +95,7 @@ func (c *scope) made(v api.Rv) api.Ty {
 	}
 	i := kinds.FnOf(*s, v.Name)
 	c.need(i >= 0, api.ErrUnknown)
-	c.handed(v.Ops, types(s.Fns[i].Params)...)
+	c.handed(v.Ops, fieldTypes(s.Fns[i].Params)...)
 	return api.Ty{K: api.TyCo, Name: v.Name}
 }
 
@@ -104,11 +105,11 @@ func (c *scope) handed(l []api.Oper, wanted ...api.Ty) {
 	for i, o := range l {
 		t := c.oper(o)
 		want, err := kinds.Resolve(c.source, wanted[i])
-		c.need(err == api.OK && same(t, want), api.ErrType)
+		c.need(err == api.OK && types.Same(t, want), api.ErrType)
 	}
 }
 
-func types(l []api.Field) []api.Ty {
+func fieldTypes(l []api.Field) []api.Ty {
 	var all []api.Ty
 	for _, f := range l {
 		all = append(all, f.Ty)

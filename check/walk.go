@@ -5,6 +5,7 @@ import (
 
 	"cocoon/api"
 	"cocoon/kinds"
+	"cocoon/types"
 )
 
 // walker goes through a coroutine, statement by statement.
@@ -76,7 +77,7 @@ func (w *walker) let(x *api.Stmt) {
 	w.name(x.Name)
 	t := w.resolved(x.Ty)
 	w.need(!isAddress(t) || !kinds.Holds(t.L[0]), api.ErrHold)
-	w.need(same(w.set(x.Rv), t), api.ErrType)
+	w.need(types.Same(w.set(x.Rv), t), api.ErrType)
 	w.know(x.Name, t)
 }
 
@@ -85,7 +86,7 @@ func (w *walker) assign(x *api.Stmt) {
 	if len(x.P.Path) > 0 {
 		w.need(t.K == api.TyInt && !shared, api.ErrPlace)
 	}
-	w.need(same(w.set(x.Rv), t), api.ErrType)
+	w.need(types.Same(w.set(x.Rv), t), api.ErrType)
 }
 
 func (w *walker) match(x *api.Stmt) {

@@ -4,6 +4,7 @@ import (
 	"slices"
 
 	"cocoon/api"
+	"cocoon/types"
 )
 
 // around tells whether a type of such a kind is of another one, which stands in its L.
@@ -25,7 +26,8 @@ func (d items) resolve(t api.Ty) (api.Ty, api.Errno) {
 	if err != api.OK {
 		return api.Ty{}, err
 	}
-	in.K, in.L = k, copies(in.L)
+	*in = types.Copied(*in)
+	in.K = k
 	return t, api.OK
 }
 
@@ -41,13 +43,4 @@ func (d items) innermost(t api.Ty) (api.TyKind, api.Errno) {
 		return 0, api.ErrUnknown
 	}
 	return 0, api.ErrType
-}
-
-// copies are types in lists of their own, at any depth.
-func copies(l []api.Ty) []api.Ty {
-	l = slices.Clone(l)
-	for i := range l {
-		l[i].L = copies(l[i].L)
-	}
-	return l
 }

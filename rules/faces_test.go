@@ -37,7 +37,7 @@ type (
 	body   = api.Body
 )
 
-// The calls of the layers 1 to 8: this is compiled only as long as each has the signature that its chapter tells.
+// The calls of the layers 1 to 9: this is compiled only as long as each has the signature that its chapter tells.
 var (
 	_ func(int) *mem.Memory                                            = mem.New
 	_ func(*mem.Memory, int) (api.Word, api.Errno)                     = (*mem.Memory).Alloc
@@ -90,15 +90,15 @@ var (
 	_ func(source, []api.Local, api.Rv) (api.Ty, api.Errno)            = check.Set
 	_ func([]api.Stmt) bool                                            = check.Ends
 	_ func(source) (api.Errno, int)                                    = check.Check
+	_ func(source, body, api.Spot) (api.Ty, bool, api.Errno)           = mir.Type
+	_ func(source, body, api.Value) (api.Ty, api.Errno)                = mir.Value
+	_ func(api.Tm) []int                                               = mir.Succ
+	_ func(source, body) bool                                          = mir.Valid
+	_ func(body) string                                                = mir.Text
 )
 
-// Those of the layers 9 to 23.
+// Those of the layers 10 to 23.
 var (
-	_ func(source, body, api.Spot) (api.Ty, bool, api.Errno)          = mir.Type
-	_ func(source, body, api.Value) (api.Ty, api.Errno)               = mir.Value
-	_ func(api.Tm) []int                                              = mir.Succ
-	_ func(source, body) bool                                         = mir.Valid
-	_ func(body) string                                               = mir.Text
 	_ func(source, int) body                                          = build.Body
 	_ func(source) []body                                             = build.Bodies
 	_ func(body) [][]int                                              = graph.Preds

@@ -20,6 +20,7 @@ func leansOn() map[string][]string {
 		"parse":   {"panic", "recover", "defer", "generic function", "method value"},
 		"kinds":   {"range over a function", "map", "compared structs", "array", "closure"},
 		"check":   {"defer", "panic", "recover", "variadic"},
+		"mir":     {"variadic closure"},
 	}
 }
 
@@ -86,6 +87,9 @@ func (y typer) ways(n ast.Node) map[string]int {
 			}
 		case *ast.FuncLit:
 			got["closure"]++
+			if y.info.Types[x].Type.(*types.Signature).Variadic() {
+				got["variadic closure"]++
+			}
 		case *ast.FuncDecl:
 			if x.Type.TypeParams != nil {
 				got["generic function"]++

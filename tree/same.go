@@ -4,6 +4,7 @@ import (
 	"slices"
 
 	"cocoon/api"
+	"cocoon/types"
 )
 
 func sameStruct(a, b api.Struct) bool {
@@ -19,15 +20,11 @@ func sameFn(a, b api.Fn) bool {
 }
 
 func sameField(a, b api.Field) bool {
-	return a.Name == b.Name && sameType(a.Ty, b.Ty)
+	return a.Name == b.Name && types.Same(a.Ty, b.Ty)
 }
 
 func sameVariant(a, b api.Variant) bool {
-	return a.Name == b.Name && sameType(a.Ty, b.Ty)
-}
-
-func sameType(a, b api.Ty) bool {
-	return a.K == b.K && a.Name == b.Name && slices.EqualFunc(a.L, b.L, sameType)
+	return a.Name == b.Name && types.Same(a.Ty, b.Ty)
 }
 
 func samePlace(a, b api.Place) bool {
@@ -49,7 +46,7 @@ func sameRow(a, b []api.Stmt) bool {
 
 // sameStmt looks at all fields, those that the kind has no use for too; but not at where it stands.
 func sameStmt(a, b api.Stmt) bool {
-	return a.K == b.K && a.Name == b.Name && sameType(a.Ty, b.Ty) &&
+	return a.K == b.K && a.Name == b.Name && types.Same(a.Ty, b.Ty) &&
 		samePlace(a.P, b.P) && sameSet(a.Rv, b.Rv) && sameOper(a.Op, b.Op) &&
 		sameRow(a.Then, b.Then) && sameRow(a.Else, b.Else) && slices.EqualFunc(a.Arms, b.Arms, sameArm)
 }

@@ -5,6 +5,7 @@ import (
 
 	"cocoon/api"
 	"cocoon/lexis"
+	"cocoon/types"
 )
 
 // all tells whether each thing of a list is valid.
@@ -41,7 +42,7 @@ func validField(f api.Field) bool {
 }
 
 func validVariant(v api.Variant) bool {
-	return great(v.Name) && (sameType(v.Ty, api.Ty{}) || validType(v.Ty))
+	return great(v.Name) && (types.Same(v.Ty, api.Ty{}) || validType(v.Ty))
 }
 
 func validType(t api.Ty) bool {
