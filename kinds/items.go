@@ -40,10 +40,18 @@ func searched(s api.Source) items {
 	}}
 }
 
-// indexed is for many names. Most types have none, so the index is not made until one is asked for.
+// few is for how many names it is not worth while to make an index.
+const few = 8
+
+// indexed is for many names. Most types have few, so the index is not made until more are asked for.
 func indexed(s api.Source) items {
 	var index map[named]int
+	asked, search := 0, searched(s).place
 	return items{s, func(n named) int {
+		asked++
+		if asked <= few {
+			return search(n)
+		}
 		if index == nil {
 			index = firsts(s)
 		}

@@ -212,3 +212,27 @@ func TestMany(t *testing.T) {
 		t.Error(err, at)
 	}
 }
+
+// TestManyNames: types that hold any number of others, of which two have a name each: the first one counts, however many names are asked for.
+func TestManyNames(t *testing.T) {
+	var parts []string
+	text, words := "", 0
+	for n := range 40 {
+		name := "A" + strconv.Itoa(n)
+		text += "struct " + name + " {" + fields(n, "int") + "} struct " + name + " { a: box " + name + ", b: " + name + " } "
+		parts = append(parts, "f"+strconv.Itoa(n)+": "+name)
+		words += n
+		all := " struct All {" + strings.Join(parts, ", ") + "}"
+		sizes(t, text+all, map[string]int{"All": words, name: n})
+		s := source(t, text+all)
+		if got := kinds.Drops(s, ty(api.TyStruct, "All")); got {
+			t.Errorf("of %d names: it drops", n)
+		}
+		if got := kinds.Offset(s, ty(api.TyStruct, "All"), n); got != words-n {
+			t.Errorf("of %d names: the last field is %d words behind, want %d", n, got, words-n)
+		}
+		if got := kinds.Drops(source(t, text+"drop "+all[1:]), ty(api.TyStruct, "All")); !got {
+			t.Errorf("of %d names: it does not drop", n)
+		}
+	}
+}

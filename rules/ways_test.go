@@ -21,6 +21,7 @@ func leansOn() map[string][]string {
 		"kinds":   {"range over a function", "map", "compared structs", "array", "closure"},
 		"check":   {"defer", "panic", "recover", "variadic"},
 		"mir":     {"variadic closure"},
+		"build":   {"map", "closure", "array"},
 	}
 }
 
