@@ -37,7 +37,7 @@ type (
 	body   = api.Body
 )
 
-// The calls of the layers 1 to 10: this is compiled only as long as each has the signature that its chapter tells.
+// The calls of the layers 1 to 11: this is compiled only as long as each has the signature that its chapter tells.
 var (
 	_ func(int) *mem.Memory                                            = mem.New
 	_ func(*mem.Memory, int) (api.Word, api.Errno)                     = (*mem.Memory).Alloc
@@ -97,14 +97,14 @@ var (
 	_ func(body) string                                                = mir.Text
 	_ func(source, int) body                                           = build.Body
 	_ func(source) []body                                              = build.Bodies
+	_ func(body) [][]int                                               = graph.Preds
+	_ func(body) []bool                                                = graph.Reach
+	_ func(body, int, []bool, []graph.Change, bool) states             = graph.Flow
+	_ func(body, int, []graph.Change) states                           = graph.Back
 )
 
-// Those of the layers 11 to 23.
+// Those of the layers 12 to 23.
 var (
-	_ func(body) [][]int                                              = graph.Preds
-	_ func(body) []bool                                               = graph.Reach
-	_ func(body, int, []bool, []graph.Change, bool) states            = graph.Flow
-	_ func(body, int, []graph.Change) states                          = graph.Back
 	_ func(source, body) states                                       = moves.May
 	_ func(source, body) states                                       = moves.Must
 	_ func(source, body) (api.Errno, int)                             = moves.Check

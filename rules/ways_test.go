@@ -22,6 +22,7 @@ func leansOn() map[string][]string {
 		"check":   {"defer", "panic", "recover", "variadic"},
 		"mir":     {"variadic closure"},
 		"build":   {"map", "closure", "array"},
+		"graph":   {"generic type", "generic function", "closure", "range over a function", "embedding", "promoted method", "map"},
 	}
 }
 
@@ -94,6 +95,10 @@ func (y typer) ways(n ast.Node) map[string]int {
 		case *ast.FuncDecl:
 			if x.Type.TypeParams != nil {
 				got["generic function"]++
+			}
+		case *ast.TypeSpec:
+			if x.TypeParams != nil {
+				got["generic type"]++
 			}
 		case *ast.DeferStmt:
 			got["defer"]++
