@@ -6,7 +6,7 @@ import (
 	"testing"
 
 	"cocoon/api"
-	"cocoon/kinds"
+	"cocoon/bodies"
 	"cocoon/mir"
 	"cocoon/parse"
 	"cocoon/types"
@@ -63,11 +63,41 @@ func source(t *testing.T, text string) api.Source {
 // typed is a text's type, resolved.
 func typed(t *testing.T, s api.Source, text string) api.Ty {
 	t.Helper()
-	u, err := kinds.Resolve(s, source(t, "co f(x: "+text+") {}").Fns[0].Params[0].Ty)
-	if err != api.OK {
-		t.Fatalf("%q: %v", text, err)
+	u, ok := bodies.Type(s, text)
+	if !ok {
+		t.Fatalf("%q is no type", text)
 	}
 	return u
+}
+
+// read is the body that a text is of.
+func read(t *testing.T, s api.Source, text string) api.Body {
+	t.Helper()
+	b, ok := bodies.Read(s, text)
+	if !ok {
+		t.Fatalf("%.3000s is no body", text)
+	}
+	return b
+}
+
+// spot is a text's.
+func spot(t *testing.T, text string) api.Spot {
+	t.Helper()
+	x, ok := bodies.Spot(text)
+	if !ok {
+		t.Fatalf("%q is no spot", text)
+	}
+	return x
+}
+
+// value is a text's.
+func value(t *testing.T, text string) api.Value {
+	t.Helper()
+	v, ok := bodies.Value(text)
+	if !ok {
+		t.Fatalf("%q is no value", text)
+	}
+	return v
 }
 
 // body is one of the locals of known, and of blocks.
@@ -123,7 +153,7 @@ func typeIs(t *testing.T, s api.Source, b api.Body, x api.Spot, want api.Ty, sha
 // makes fails, if a value, by its text, is not of a type; one that is wrong has the zero one.
 func makes(t *testing.T, s api.Source, b api.Body, text string, want api.Ty, wrong api.Errno) {
 	t.Helper()
-	valueIs(t, s, b, reader{t, s}.value(strings.Fields(text)), want, wrong)
+	valueIs(t, s, b, value(t, text), want, wrong)
 }
 
 func valueIs(t *testing.T, s api.Source, b api.Body, v api.Value, want api.Ty, wrong api.Errno) {

@@ -134,13 +134,13 @@ func TestType(t *testing.T) {
 		}
 		for i := range line {
 			if line[i] == ' ' {
-				typeIs(t, s, b, reader{t, s}.spot(line[:i]), typed(t, s, line[i+1:]), shared, api.OK)
+				typeIs(t, s, b, spot(t, line[:i]), typed(t, s, line[i+1:]), shared, api.OK)
 				break
 			}
 		}
 	}
 	for _, line := range lines(nowhere) {
-		typeIs(t, s, b, reader{t, s}.spot(line), api.Ty{}, false, api.ErrPlace)
+		typeIs(t, s, b, spot(t, line), api.Ty{}, false, api.ErrPlace)
 	}
 	typeIs(t, s, api.Body{}, api.Spot{}, api.Ty{}, false, api.ErrPlace)
 	typeIs(t, api.Source{}, b, api.Spot{Local: 3}, typed(t, s, "S"), false, api.OK)

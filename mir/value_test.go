@@ -263,7 +263,7 @@ func TestValueSpot(t *testing.T) {
 	s, b := source(t, decls), body(t, "")
 	for _, line := range lines(made) {
 		text, _ := parts(t, line)
-		v := reader{t, s}.value(strings.Fields(text))
+		v := value(t, text)
 		if v.K == api.RvRef || v.K == api.RvMut || v.K == api.RvUnbox {
 			continue
 		}

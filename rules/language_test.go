@@ -63,6 +63,7 @@ type reader struct {
 func read(t *testing.T) reader {
 	r := reader{t, token.NewFileSet(), map[string][]goFile{}}
 	r.pack("api")
+	r.pack("bodies")
 	for _, x := range standsOn {
 		r.pack(x.layer)
 	}

@@ -23,6 +23,7 @@ func leansOn() map[string][]string {
 		"mir":     {"variadic closure"},
 		"build":   {"map", "closure", "array"},
 		"graph":   {"generic type", "generic function", "closure", "range over a function", "embedding", "promoted method", "map"},
+		"moves":   {"variadic", "closure"},
 	}
 }
 
