@@ -37,7 +37,7 @@ type (
 	body   = api.Body
 )
 
-// The calls of the layers 1 to 12: this is compiled only as long as each has the signature that its chapter tells.
+// The calls of the layers 1 to 13: this is compiled only as long as each has the signature that its chapter tells.
 var (
 	_ func(int) *mem.Memory                                            = mem.New
 	_ func(*mem.Memory, int) (api.Word, api.Errno)                     = (*mem.Memory).Alloc
@@ -104,14 +104,14 @@ var (
 	_ func(source, body) states                                        = moves.May
 	_ func(source, body) states                                        = moves.Must
 	_ func(source, body) (api.Errno, int)                              = moves.Check
+	_ func(source, body) states                                        = alive.Alive
+	_ func(source, body) []int                                         = alive.Saved
+	_ func(source, body) states                                        = alive.Storage
+	_ func(source, body) [][]bool                                      = alive.Holds
 )
 
-// Those of the layers 13 to 23.
+// Those of the layers 14 to 23.
 var (
-	_ func(source, body) states                                       = alive.Alive
-	_ func(source, body) []int                                        = alive.Saved
-	_ func(source, body) states                                       = alive.Storage
-	_ func(source, body) [][]bool                                     = alive.Holds
 	_ func(body) []loans.Loan                                         = loans.Loans
 	_ func(source, body) states                                       = loans.Held
 	_ func(api.Spot, api.Spot) bool                                   = loans.Overlap

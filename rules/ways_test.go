@@ -24,6 +24,7 @@ func leansOn() map[string][]string {
 		"build":   {"map", "closure", "array"},
 		"graph":   {"generic type", "generic function", "closure", "range over a function", "embedding", "promoted method", "map"},
 		"moves":   {"variadic", "closure"},
+		"alive":   {"variadic", "three indices", "range over an integer"},
 	}
 }
 
@@ -84,6 +85,10 @@ func (y typer) ways(n ast.Node) map[string]int {
 			}
 		case *ast.RangeStmt:
 			got["range over "+y.ranged(x.X)]++
+		case *ast.SliceExpr:
+			if x.Slice3 {
+				got["three indices"]++
+			}
 		case *ast.Ellipsis:
 			if x.Elt != nil { // not that of an array
 				got["variadic"]++
