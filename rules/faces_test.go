@@ -37,7 +37,7 @@ type (
 	body   = api.Body
 )
 
-// The calls of the layers 1 to 13: this is compiled only as long as each has the signature that its chapter tells.
+// The calls of the layers 1 to 14: this is compiled only as long as each has the signature that its chapter tells.
 var (
 	_ func(int) *mem.Memory                                            = mem.New
 	_ func(*mem.Memory, int) (api.Word, api.Errno)                     = (*mem.Memory).Alloc
@@ -108,13 +108,13 @@ var (
 	_ func(source, body) []int                                         = alive.Saved
 	_ func(source, body) states                                        = alive.Storage
 	_ func(source, body) [][]bool                                      = alive.Holds
+	_ func(body) []loans.Loan                                          = loans.Loans
+	_ func(source, body) states                                        = loans.Held
+	_ func(api.Spot, api.Spot) bool                                    = loans.Overlap
 )
 
-// Those of the layers 14 to 23.
+// Those of the layers 15 to 23.
 var (
-	_ func(body) []loans.Loan                                         = loans.Loans
-	_ func(source, body) states                                       = loans.Held
-	_ func(api.Spot, api.Spot) bool                                   = loans.Overlap
 	_ func(source, body) (api.Errno, int)                             = borrows.Check
 	_ func(source, body, int, int) []int                              = borrows.Active
 	_ func(source, body) [][]bool                                     = borrows.Lent

@@ -25,6 +25,7 @@ func leansOn() map[string][]string {
 		"graph":   {"generic type", "generic function", "closure", "range over a function", "embedding", "promoted method", "map"},
 		"moves":   {"variadic", "closure"},
 		"alive":   {"variadic", "three indices", "range over an integer"},
+		"loans":   {"range over a function", "copy", "clear", "map"},
 	}
 }
 
