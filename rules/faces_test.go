@@ -37,7 +37,7 @@ type (
 	body   = api.Body
 )
 
-// The calls of the layers 1 to 14: this is compiled only as long as each has the signature that its chapter tells.
+// The calls of the layers 1 to 15: this is compiled only as long as each has the signature that its chapter tells.
 var (
 	_ func(int) *mem.Memory                                            = mem.New
 	_ func(*mem.Memory, int) (api.Word, api.Errno)                     = (*mem.Memory).Alloc
@@ -111,13 +111,13 @@ var (
 	_ func(body) []loans.Loan                                          = loans.Loans
 	_ func(source, body) states                                        = loans.Held
 	_ func(api.Spot, api.Spot) bool                                    = loans.Overlap
+	_ func(source, body) (api.Errno, int)                              = borrows.Check
+	_ func(source, body, int, int) []int                               = borrows.Active
+	_ func(source, body) [][]bool                                      = borrows.Lent
 )
 
-// Those of the layers 15 to 23.
+// Those of the layers 16 to 23.
 var (
-	_ func(source, body) (api.Errno, int)                             = borrows.Check
-	_ func(source, body, int, int) []int                              = borrows.Active
-	_ func(source, body) [][]bool                                     = borrows.Lent
 	_ func(source, body) bool                                         = pins.Unpin
 	_ func(source, body) states                                       = pins.Polled
 	_ func(source, []body, body) (api.Errno, int)                     = pins.Check

@@ -26,6 +26,7 @@ func leansOn() map[string][]string {
 		"moves":   {"variadic", "closure"},
 		"alive":   {"variadic", "three indices", "range over an integer"},
 		"loans":   {"range over a function", "copy", "clear", "map"},
+		"borrows": {"iota", "closure", "map", "variadic"},
 	}
 }
 
