@@ -37,7 +37,7 @@ type (
 	body   = api.Body
 )
 
-// The calls of the layers 1 to 15: this is compiled only as long as each has the signature that its chapter tells.
+// The calls of the layers 1 to 16: this is compiled only as long as each has the signature that its chapter tells.
 var (
 	_ func(int) *mem.Memory                                            = mem.New
 	_ func(*mem.Memory, int) (api.Word, api.Errno)                     = (*mem.Memory).Alloc
@@ -114,13 +114,13 @@ var (
 	_ func(source, body) (api.Errno, int)                              = borrows.Check
 	_ func(source, body, int, int) []int                               = borrows.Active
 	_ func(source, body) [][]bool                                      = borrows.Lent
+	_ func(source, body) bool                                          = pins.Unpin
+	_ func(source, body) states                                        = pins.Polled
+	_ func(source, []body, body) (api.Errno, int)                      = pins.Check
 )
 
-// Those of the layers 16 to 23.
+// Those of the layers 17 to 23.
 var (
-	_ func(source, body) bool                                         = pins.Unpin
-	_ func(source, body) states                                       = pins.Polled
-	_ func(source, []body, body) (api.Errno, int)                     = pins.Check
 	_ func(source, body) layout.Layout                                = layout.Of
 	_ func(source, body, api.Spot) []int                              = layout.Spot
 	_ func(api.In) bool                                               = flags.Aborts

@@ -27,6 +27,7 @@ func leansOn() map[string][]string {
 		"alive":   {"variadic", "three indices", "range over an integer"},
 		"loans":   {"range over a function", "copy", "clear", "map"},
 		"borrows": {"iota", "closure", "map", "variadic"},
+		"pins":    {"map", "closure"},
 	}
 }
 
